@@ -1,0 +1,1 @@
+"""Firstbooks: each next number into the first book that can take it."""
