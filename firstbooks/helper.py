@@ -1,6 +1,6 @@
 """What several files of the package share."""
 
-from firstbooks.marks import top
+from firstbooks.marks import marks, top
 
 BAR_MARKS = 190
 
@@ -13,6 +13,22 @@ def is_number(thing):
 def is_bar(thing):
     """Tell whether a thing of any kind is a bar."""
     return is_number(thing) and 0 < thing < 1 << BAR_MARKS
+
+
+def is_list(thing):
+    """Tell whether a thing of any kind is a list, or a tuple handed in as one."""
+    return isinstance(thing, (list, tuple))
+
+
+def is_tuple_of(thing, many):
+    """Tell whether a thing of any kind is a tuple of so many things."""
+    return isinstance(thing, tuple) and len(thing) == many
+
+
+def is_same(thing, number):
+    """Tell whether a thing of any kind is this number."""
+    # True is alike to 1, and 1.0 too, so the kind is asked first.
+    return is_number(thing) and thing == number
 
 
 def book_by(homes, number):
@@ -48,3 +64,38 @@ def _least_beside(books):
     while least in taken:
         least = least + 1
     return least
+
+
+def keepers(house):
+    """Tell for each top mark the bars that have it, by the book that each keeps this power out of."""
+    told = {}
+    for bar in house.bars():
+        power = top(bar)
+        book = house.book_of(bar ^ (1 << power))
+        told.setdefault(power, {}).setdefault(book, []).append(bar)
+    return told
+
+
+def sum_at(rows, place):
+    """Tell the sum of the rows at the marks of a place."""
+    total = 0
+    for mark in marks(place):
+        total = total ^ rows[mark]
+    return total
+
+
+def many_below(start, rows, bound):
+    """Tell how many sums of the start and some of the rows are less than a bound.
+
+    The rows rise, and each one's top mark is a mark of no other row and not of the start.
+    """
+    # Such sums rise with their places, so the last place below the bound is found mark by mark.
+    if start >= bound:
+        return 0
+    number = start
+    place = 0
+    for mark in reversed(range(len(rows))):
+        if number ^ rows[mark] < bound:
+            number = number ^ rows[mark]
+            place = place + (1 << mark)
+    return place + 1

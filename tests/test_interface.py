@@ -6,6 +6,18 @@ FOLDER = os.path.join(os.path.dirname(os.path.dirname(os.path.abspath(__file__))
 
 FUNCTIONS = {
     "marks": {"marks": "number", "number_of": "places", "top": "number"},
+    "papers": {
+        "why": "house number", "shows_why": "house number paper", "whole": "house", "shows_whole": "bars paper",
+        "barred_by": "house number book",
+    },
+    "idle": {
+        "turning": "house bar", "idle_bars": "house", "core": "house", "how_many_cores": "house",
+        "is_core": "house bars", "how_many_alike": "house powers",
+    },
+    "shelf": {
+        "first": "house book", "nth": "house book place", "count": "house book below",
+        "behind": "house book number", "ahead": "house book number", "place": "house number",
+    },
 }
 
 CLASSES = {
@@ -13,6 +25,11 @@ CLASSES = {
         "__init__": "self bars", "put": "self bar", "take": "self bar", "bars": "self", "sees": "self number other",
         "book_of": "self number", "home": "self power", "height": "self", "new": "self", "books": "self",
         "checks": "self", "__eq__": "self other", "__len__": "self",
+    },
+    ("spans", "Span"): {
+        "__init__": "self numbers", "add": "self number", "rank": "self", "holds": "self number", "nth": "self place",
+        "order_of": "self number", "below": "self bound", "rows": "self", "rest": "self number",
+        "made_of": "self number",
     },
 }
 
