@@ -16,8 +16,8 @@ def test_files(folder):
     return sorted(found)
 
 
-def run_file(path):
-    """Run one file by itself, so that files of the same name don't meet."""
+def run_file(path, least):
+    """Run one file by itself, so that files of the same name don't meet; it is to hold so many tests."""
     folder, name = os.path.split(path)
     command = [sys.executable, "-m", "unittest", name[:-len(".py")]]
     env = dict(os.environ, PYTHONPATH=ROOT, PYTHONDONTWRITEBYTECODE="1")
@@ -27,7 +27,8 @@ def run_file(path):
     for line in told.splitlines():
         if line.startswith("Ran ") and " test" in line:
             ran = int(line.split()[1])
-    good = done.returncode == 0 and ran > 0
+    # Some Pythons end with 5 where a file holds no test.
+    good = ran >= least and (done.returncode == 0 or (done.returncode == 5 and ran == 0))
     print(f"{os.path.relpath(path, ROOT)}: {ran} tests, {'ok' if good else 'FAILED'}", flush=True)
     if not good:
         print(told, flush=True)
@@ -37,7 +38,7 @@ def run_file(path):
 def main():
     own = test_files(os.path.join(ROOT, "tests"))
     shared = test_files(os.path.join(ROOT, "..", "shared", "tests"))
-    told = [run_file(path) for path in own + shared]
+    told = [run_file(path, 1) for path in own] + [run_file(path, 0) for path in shared]
     passed = told.count(True)
     print(f"files of tests: {len(own)} own, {len(shared)} shared")
     print(f"{passed} passed, {len(told) - passed} failed")
