@@ -1,6 +1,7 @@
 """What several files of the package share."""
 
-from firstbooks.marks import marks, top
+from firstbooks.errors import NoBook
+from firstbooks.marks import marks, number_of, top
 
 BAR_MARKS = 190
 
@@ -66,14 +67,62 @@ def _least_beside(books):
     return least
 
 
-def keepers(house):
+def low_homes(house):
+    """Tell the homes of all powers below the height of a house, a list of the asker's own."""
+    return [house.home(power) for power in range(house.height())]
+
+
+def new_by(homes):
+    """Tell the powers whose homes are no books of lesser numbers, rising, by the homes of the powers 0, 1, .."""
+    found = []
+    for power, home in enumerate(homes):
+        # The books of lesser numbers are all those below 2 ** (new powers so far).
+        if home == 1 << len(found):
+            found.append(power)
+    return found
+
+
+def first_of(new, book):
+    """Tell the first number of a book by the new powers, whose homes are 1, 2, 4, .."""
+    return number_of([new[mark] for mark in marks(book)])
+
+
+def refuse_unmet(house, book):
+    """Refuse a thing of any kind that is no book that is met."""
+    if not is_number(book) or book >= house.books():
+        raise NoBook(book)
+
+
+def keepers_by(homes, bars):
     """Tell for each top mark the bars that have it, by the book that each keeps this power out of."""
     told = {}
-    for bar in house.bars():
+    for bar in bars:
         power = top(bar)
-        book = house.book_of(bar ^ (1 << power))
+        book = book_by(homes, bar ^ (1 << power))
         told.setdefault(power, {}).setdefault(book, []).append(bar)
     return told
+
+
+def keepers(house):
+    """Tell the keepers of a house: its bars by their top marks and by the books they keep these powers out of."""
+    return keepers_by(low_homes(house), house.bars())
+
+
+def signs_by(base, number):
+    """Tell the signs of a number written by a base, the greatest place first, none for 0."""
+    signs = []
+    while number:
+        signs.append(number % base)
+        number = number // base
+    return signs[::-1]
+
+
+def read_by(base, signs):
+    """Tell the number that signs write by a base, the greatest place first."""
+    number = 0
+    for sign in signs:
+        number = number * base + sign
+    return number
 
 
 def sum_at(rows, place):

@@ -1,7 +1,7 @@
 """A house of bars: which book takes which number."""
 
 from firstbooks.errors import BadBar, NoBar, Twice
-from firstbooks.helper import book_by, homes_by, is_bar
+from firstbooks.helper import book_by, homes_by, is_bar, new_by
 from firstbooks.marks import number_of
 
 
@@ -61,12 +61,7 @@ class House:
 
     def new(self):
         """Tell the powers whose homes are no books of lesser numbers, rising."""
-        found = []
-        for power, home in enumerate(self._low_homes()):
-            # The books of lesser numbers are all those below 2 ** (new powers so far).
-            if home == 1 << len(found):
-                found.append(power)
-        return found
+        return new_by(self._low_homes())
 
     def books(self):
         """Tell how many books are met."""

@@ -1,14 +1,12 @@
 """The numbers of a book, found by how many go ahead."""
 
-from firstbooks.errors import NoBook
-from firstbooks.helper import is_number, many_below, sum_at
-from firstbooks.marks import marks, number_of
+from firstbooks.helper import first_of, many_below, refuse_unmet, sum_at
 
 
 def first(house, book):
     """Tell the first number of a book."""
-    _refuse_unmet(house, book)
-    return _first_of(house.new(), book)
+    refuse_unmet(house, book)
+    return first_of(house.new(), book)
 
 
 def nth(house, book, place):
@@ -41,19 +39,8 @@ def place(house, number):
     return count(house, house.book_of(number), number)
 
 
-def _refuse_unmet(house, book):
-    """Refuse a thing of any kind that is no book that is met."""
-    if not is_number(book) or book >= house.books():
-        raise NoBook(book)
-
-
-def _first_of(new, book):
-    """Tell the first number of a book by the new powers, whose homes are 1, 2, 4, .."""
-    return number_of([new[mark] for mark in marks(book)])
-
-
 def _rows(house, powers):
     """Tell the numbers of book 0, rising, that have one power that isn't new, one of the first so many."""
     # A number's other marks are free, and those at the new powers follow from its book.
     new = house.new()
-    return [(1 << power) ^ _first_of(new, house.home(power)) for power in range(powers) if power not in new]
+    return [(1 << power) ^ first_of(new, house.home(power)) for power in range(powers) if power not in new]

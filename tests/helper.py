@@ -60,3 +60,63 @@ def crowded(power_places):
     for i in range(1, 2 ** len(power_places)):
         told.append(sum(2 ** p for k, p in enumerate(power_places) if i >> k & 1))
     return told
+
+
+def otherwise(thing):
+    """Tell things that differ from a paper at one place, at any depth."""
+    if isinstance(thing, int):
+        yield from (thing + 1, thing - 1, thing ^ 4, -thing - 1, float(thing), str(thing), None, [thing], (thing,))
+        if thing in (0, 1):
+            yield thing == 1
+        return
+    if isinstance(thing, tuple):
+        yield list(thing)
+    kind = type(thing)
+    yield kind(list(thing) + [thing])
+    yield kind(list(thing) + [0])
+    yield from (None, {}, 0, True, "paper")
+    for place, part in enumerate(thing):
+        yield kind(list(thing[:place]) + list(thing[place + 1:]))
+        yield kind(list(thing[:place]) + [part] + list(thing[place:]))
+        if place and thing[place - 1] != part:
+            yield kind(list(thing[:place - 1]) + [part, thing[place - 1]] + list(thing[place + 1:]))
+        for other in otherwise(part):
+            yield kind(list(thing[:place]) + [other] + list(thing[place + 1:]))
+
+
+def with_tuples(thing):
+    """Tell the same paper with a tuple for each list."""
+    return tuple(with_tuples(part) for part in thing) if isinstance(thing, (list, tuple)) else thing
+
+
+def same(one, other):
+    """Tell whether two things are the same in their kinds, too."""
+    if type(one) is not type(other):
+        return False
+    if isinstance(one, (list, tuple)):
+        return len(one) == len(other) and all(same(a, b) for a, b in zip(one, other))
+    return one == other
+
+
+def refused(case, error, ask, **fields):
+    """Look at it that an ask is refused by just this class, with the very things as its fields."""
+    with case.assertRaises(error) as caught:
+        ask()
+    case.assertIs(caught.exception.__class__, error)
+    case.assertEqual(sorted(vars(caught.exception)), sorted(fields))
+    for field, thing in fields.items():
+        case.assertIs(getattr(caught.exception, field), thing)
+
+
+def homes_one_by_one(bars, powers):
+    """Tell the homes of the powers below a number of them, by going through all numbers one by one."""
+    books = books_one_by_one(bars, 2 ** powers)
+    return [books[2 ** power] for power in range(powers)]
+
+
+def all_homes(powers):
+    """Tell all homes that houses of bars below 2 ** powers have, each with the houses that have them."""
+    told = {}
+    for bars in all_sets(range(1, 2 ** powers)):
+        told.setdefault(tuple(homes_one_by_one(bars, powers)), []).append(bars)
+    return told

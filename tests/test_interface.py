@@ -18,6 +18,25 @@ FUNCTIONS = {
         "first": "house book", "nth": "house book place", "count": "house book below",
         "behind": "house book number", "ahead": "house book number", "place": "house number",
     },
+    "apart": {
+        "parts": "one other", "unlike": "one other below", "pairs_met": "one other", "pair_first": "one other pair",
+        "pair_nth": "one other pair place", "pair_count": "one other pair below",
+    },
+    "wishes": {
+        "can_be": "homes", "fewest": "homes", "of_menu": "homes menu * prices=None", "turned_into": "house homes",
+    },
+    "fewmarks": {
+        "fewest_marks": "house book", "shows_fewest": "house book paper", "with_marks": "house book many power",
+    },
+    "even": {
+        "even_book": "number", "halves": "book", "from_halves": "signs", "even_first": "book",
+        "even_nth": "book place", "even_count": "book below", "even_behind": "book number",
+        "even_ahead": "book number", "even_place": "number", "even_reach": "below", "even_lacks": "book",
+    },
+    "long": {
+        "is_taken": "prime number", "long_step": "prime number", "is_long_step": "prime number step",
+        "long_nth": "prime place", "long_count": "prime below",
+    },
 }
 
 CLASSES = {
@@ -30,6 +49,15 @@ CLASSES = {
         "__init__": "self numbers", "add": "self number", "rank": "self", "holds": "self number", "nth": "self place",
         "order_of": "self number", "below": "self bound", "rows": "self", "rest": "self number",
         "made_of": "self number",
+    },
+    ("orders", "Order"): {
+        "__init__": "self words", "word": "self index", "index_of": "self number", "led": "self house",
+        "book_of": "self house number", "__len__": "self",
+    },
+    ("town", "Town"): {
+        "__init__": "self", "turn": "self moment bar", "drop": "self moment", "entries": "self * upto=None",
+        "bars": "self * upto=None", "house": "self * upto=None", "moves": "self number * since=None upto=None",
+        "moved": "self moment", "comes": "self number book", "same": "self one other", "__len__": "self",
     },
 }
 
@@ -46,9 +74,13 @@ def file_body(name):
 
 class TestInterface(unittest.TestCase):
     def check(self, function, names, where):
-        told = [arg.arg for arg in function.args.posonlyargs + function.args.args]
+        there = function.args
+        told = [arg.arg for arg in there.args]
+        if there.kwonlyargs:
+            told.append("*")
+        told += [f"{arg.arg}={ast.unparse(value)}" for arg, value in zip(there.kwonlyargs, there.kw_defaults)]
         self.assertEqual(told, names.split(), where)
-        self.assertEqual(function.args.posonlyargs, [], where)
+        self.assertEqual((there.posonlyargs, there.vararg, there.kwarg), ([], None, None), where)
 
     def test_functions_stand_in_their_files(self):
         for name, functions in FUNCTIONS.items():

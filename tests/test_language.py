@@ -86,6 +86,19 @@ class TestLanguage(unittest.TestCase):
         for name, node in nodes(ast.Constant):
             self.assertNotIsInstance(node.value, (float, complex), name)
 
+    def test_sets_are_kept_as_they_are_made(self):
+        # A class has a method called add, so nothing is added to a stored set.
+        for name, function in nodes(ast.FunctionDef):
+            kept = set()
+            for node in ast.walk(function):
+                if isinstance(node, ast.Assign) and isinstance(node.value, (ast.Set, ast.SetComp, ast.Call)):
+                    made = node.value.func if isinstance(node.value, ast.Call) else None
+                    if made is None or (isinstance(made, ast.Name) and made.id == "set"):
+                        kept |= {target.id for target in node.targets if isinstance(target, ast.Name)}
+            for node in ast.walk(function):
+                if isinstance(node, ast.Attribute) and isinstance(node.value, ast.Name):
+                    self.assertNotIn(node.value.id, kept, (name, function.name))
+
     def test_lists_where_a_class_compares(self):
         for name, node in nodes(ast.Call):
             if isinstance(node.func, ast.Name) and node.func.id in ("any", "all", "min", "max", "sum", "sorted"):

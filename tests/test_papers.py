@@ -1,46 +1,10 @@
 import random
 import unittest
 
-from helper import ANYTHINGS, books_one_by_one, far_bars, far_numbers, some_houses
+from helper import ANYTHINGS, books_one_by_one, far_bars, far_numbers, otherwise, same, some_houses, with_tuples
 
 from firstbooks.house import House
 from firstbooks.papers import barred_by, shows_why, shows_whole, whole, why
-
-
-def otherwise(thing):
-    """Tell things that differ from a paper at one place, at any depth."""
-    if isinstance(thing, int):
-        yield from (thing + 1, thing - 1, thing ^ 4, -thing - 1, float(thing), str(thing), None, [thing], (thing,))
-        if thing in (0, 1):
-            yield thing == 1
-        return
-    if isinstance(thing, tuple):
-        yield list(thing)
-    kind = type(thing)
-    yield kind(list(thing) + [thing])
-    yield kind(list(thing) + [0])
-    yield from (None, {}, 0, True, "paper")
-    for place, part in enumerate(thing):
-        yield kind(list(thing[:place]) + list(thing[place + 1:]))
-        yield kind(list(thing[:place]) + [part] + list(thing[place:]))
-        if place and thing[place - 1] != part:
-            yield kind(list(thing[:place - 1]) + [part, thing[place - 1]] + list(thing[place + 1:]))
-        for other in otherwise(part):
-            yield kind(list(thing[:place]) + [other] + list(thing[place + 1:]))
-
-
-def with_tuples(thing):
-    """Tell the same paper with a tuple for each list."""
-    return tuple(with_tuples(part) for part in thing) if isinstance(thing, (list, tuple)) else thing
-
-
-def same(one, other):
-    """Tell whether two things are the same in their kinds, too."""
-    if type(one) is not type(other):
-        return False
-    if isinstance(one, (list, tuple)):
-        return len(one) == len(other) and all(same(a, b) for a, b in zip(one, other))
-    return one == other
 
 
 class TestWhy(unittest.TestCase):
