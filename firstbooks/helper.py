@@ -4,6 +4,9 @@ from firstbooks.errors import NoBook
 from firstbooks.marks import marks, number_of, top
 
 BAR_MARKS = 190
+LAST_MOMENT = 1000000000000
+FIGURES = "0123456789"
+MOST_FIGURES = 200
 
 
 def is_number(thing):
@@ -14,6 +17,11 @@ def is_number(thing):
 def is_bar(thing):
     """Tell whether a thing of any kind is a bar."""
     return is_number(thing) and 0 < thing < 1 << BAR_MARKS
+
+
+def is_moment(thing):
+    """Tell whether a thing of any kind is a moment."""
+    return is_number(thing) and thing <= LAST_MOMENT
 
 
 def is_list(thing):
@@ -30,6 +38,48 @@ def is_same(thing, number):
     """Tell whether a thing of any kind is this number."""
     # True is alike to 1, and 1.0 too, so the kind is asked first.
     return is_number(thing) and thing == number
+
+
+def are_rising(numbers):
+    """Tell whether each number of a list is greater than the one ahead of it."""
+    return all([one < other for one, other in zip(numbers, numbers[1:])])
+
+
+def are_marks(things):
+    """Tell whether a list's things of any kind are marks that a bar can have, rising."""
+    if not all([is_number(thing) and thing < BAR_MARKS for thing in things]):
+        return False
+    return are_rising(things)
+
+
+def number_in(word):
+    """Tell the number that a word writes, None where it writes none."""
+    if word == "" or len(word) > MOST_FIGURES:
+        return None
+    # Python reads other signs as figures, too, and so it isn't asked.
+    if not all([sign in FIGURES for sign in word]):
+        return None
+    return None if word[0] == "0" and word != "0" else int(word)
+
+
+def moment_in(word):
+    """Tell the moment that a word writes, None where it writes none."""
+    number = number_in(word)
+    return number if is_moment(number) else None
+
+
+def bar_in(words):
+    """Tell the bar whose marks a list of words writes, None where they write none."""
+    places = [number_in(word) for word in words]
+    return number_of(places) if places and are_marks(places) else None
+
+
+def crosswise(numbers, many):
+    """Tell for each of the first so many marks the number whose marks are the places of the numbers that have it."""
+    return [
+        number_of([place for place, number in enumerate(numbers) if (number >> mark) & 1])
+        for mark in range(many)
+    ]
 
 
 def book_by(homes, number):

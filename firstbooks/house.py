@@ -1,8 +1,7 @@
 """A house of bars: which book takes which number."""
 
 from firstbooks.errors import BadBar, NoBar, Twice
-from firstbooks.helper import book_by, homes_by, is_bar, new_by
-from firstbooks.marks import number_of
+from firstbooks.helper import book_by, crosswise, homes_by, is_bar, new_by
 
 
 class House:
@@ -69,11 +68,7 @@ class House:
 
     def checks(self):
         """Tell for each mark of books the number of the powers whose homes have it."""
-        homes = self._low_homes()
-        return [
-            number_of([power for power, home in enumerate(homes) if (home >> mark) & 1])
-            for mark in range(len(self.new()))
-        ]
+        return crosswise(self._low_homes(), len(self.new()))
 
     def _low_homes(self):
         """Tell the homes of the powers below the height; not to be changed."""

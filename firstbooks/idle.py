@@ -1,7 +1,7 @@
 """Bars that matter, and those that don't."""
 
 from firstbooks.errors import BadBar, Low, TooMany
-from firstbooks.helper import is_bar, is_list, is_number, keepers
+from firstbooks.helper import are_rising, is_bar, is_list, is_number, keepers
 from firstbooks.house import House
 from firstbooks.marks import top
 
@@ -51,9 +51,7 @@ def is_core(house, bars):
     choices = _choices(house)
     if not is_list(bars) or len(bars) != len(choices):
         return False
-    if not all([is_number(bar) for bar in bars]):
-        return False
-    if not all([one < other for one, other in zip(bars, bars[1:])]):
+    if not all([is_number(bar) for bar in bars]) or not are_rising(bars):
         return False
     # As many unlike bars as there are choices, and one of each: so there are no others.
     return all([any([bar in choice for bar in bars]) for choice in choices])

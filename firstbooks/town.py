@@ -2,10 +2,8 @@
 
 from firstbooks.apart import parts
 from firstbooks.errors import BadBar, BadMoment, NoEntry, SameMoment
-from firstbooks.helper import book_by, homes_by, is_bar, is_number
+from firstbooks.helper import book_by, homes_by, is_bar, is_moment
 from firstbooks.house import House
-
-LAST_MOMENT = 1000000000000
 
 
 class Town:
@@ -21,7 +19,7 @@ class Town:
 
     def turn(self, moment, bar):
         """Tell the town of an entry."""
-        if not _is_moment(moment):
+        if not is_moment(moment):
             raise BadMoment(moment)
         if moment in self._turned:
             raise SameMoment(moment)
@@ -93,10 +91,5 @@ class Town:
 
     def _refuse_unknown(self, moment):
         """Refuse a thing of any kind that is no moment of an entry."""
-        if not _is_moment(moment) or moment not in self._turned:
+        if not is_moment(moment) or moment not in self._turned:
             raise NoEntry(moment)
-
-
-def _is_moment(thing):
-    """Tell whether a thing of any kind is a moment."""
-    return is_number(thing) and thing <= LAST_MOMENT

@@ -69,6 +69,9 @@ def otherwise(thing):
         if thing in (0, 1):
             yield thing == 1
         return
+    if isinstance(thing, str):
+        yield from ("", thing + " ", " " + thing, thing[:-1], thing.upper(), thing.encode(), list(thing), None, 0, True)
+        return
     if isinstance(thing, tuple):
         yield list(thing)
     kind = type(thing)

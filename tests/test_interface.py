@@ -14,6 +14,14 @@ FUNCTIONS = {
         "turning": "house bar", "idle_bars": "house", "core": "house", "how_many_cores": "house",
         "is_core": "house bars", "how_many_alike": "house powers",
     },
+    "checks": {"homes_of": "checks powers"},
+    "asks": {
+        "tells_apart": "numbers powers", "shows_asks": "numbers powers paper", "fewest_more": "numbers powers",
+    },
+    "texts": {
+        "show_town": "town", "read_town": "text", "show_why": "number paper", "read_why": "text",
+        "shows_text": "house text",
+    },
     "shelf": {
         "first": "house book", "nth": "house book place", "count": "house book below",
         "behind": "house book number", "ahead": "house book number", "place": "house number",
