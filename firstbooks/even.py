@@ -1,14 +1,14 @@
 """Evenness: no three evenly spaced numbers in a book."""
 
 from firstbooks.errors import BadSigns
-from firstbooks.helper import is_list, is_number, read_by, signs_by
+from firstbooks.helper import heads_of, is_list, is_sign, led_by, read_by, signs_by
 
 
 def even_book(number):
     """Tell the book into which a number goes by evenness."""
     book = 0
     for sign in signs_by(3, number):
-        book = _led(book, sign)
+        book = led_by(book, sign)
     return book
 
 
@@ -27,7 +27,7 @@ def from_halves(signs):
         raise BadSigns("this is no list of signs")
     book = 0
     for sign in signs:
-        if not is_number(sign) or sign > 2:
+        if not is_sign(sign):
             raise BadSigns("a sign is 0, 1 or 2")
         twice = 3 * book + sign
         # It is 0 only by a nought ahead.
@@ -52,11 +52,11 @@ def even_nth(book, place):
     left = place
     for ways in reversed(table[:-1]):
         sign = 0
-        while left >= ways.get(_led(head, sign), 0):
-            left = left - ways.get(_led(head, sign), 0)
+        while left >= ways.get(led_by(head, sign), 0):
+            left = left - ways.get(led_by(head, sign), 0)
             sign = sign + 1
         number = 3 * number + sign
-        head = _led(head, sign)
+        head = led_by(head, sign)
     return number
 
 
@@ -69,8 +69,8 @@ def even_count(book, below):
     many = 0
     head = 0
     for sign, ways in zip(signs, table[::-1]):
-        many = many + sum([ways.get(_led(head, less), 0) for less in range(sign)])
-        head = _led(head, sign)
+        many = many + sum([ways.get(led_by(head, less), 0) for less in range(sign)])
+        head = led_by(head, sign)
     return many
 
 
@@ -96,11 +96,11 @@ def even_reach(below):
     head = 0
     for sign in signs_by(3, below):
         # The last sign is free behind lesser heads, and is less than the bound's behind its own head.
-        found = [] if reach is None else [_led(reach, 2)]
+        found = [] if reach is None else [led_by(reach, 2)]
         if sign:
-            found.append(_led(head, sign - 1))
+            found.append(led_by(head, sign - 1))
         reach = max(found)
-        head = _led(head, sign)
+        head = led_by(head, sign)
     return reach
 
 
@@ -109,16 +109,10 @@ def even_lacks(book):
     return 2 - book % 3
 
 
-def _led(book, sign):
-    """Tell the book of 3 * n + sign by that of n."""
-    return (3 * book + sign) // 2
-
-
 def _one_more(ways):
     """Tell for each book of a head how many lists of signs lead from it to one book, by how many one sign less do."""
     told = {}
     for book, many in ways.items():
-        # The sign that leads from the head's book is what is left of twice the book, or of one more.
-        for twice in (2 * book, 2 * book + 1):
-            told[twice // 3] = told.get(twice // 3, 0) + many
+        for head in heads_of(book).values():
+            told[head] = told.get(head, 0) + many
     return told

@@ -52,6 +52,11 @@ def are_marks(things):
     return are_rising(things)
 
 
+def is_sign(thing):
+    """Tell whether a thing of any kind is a sign by threes."""
+    return is_number(thing) and thing < 3
+
+
 def number_in(word):
     """Tell the number that a word writes, None where it writes none."""
     if word == "" or len(word) > MOST_FIGURES:
@@ -173,6 +178,17 @@ def read_by(base, signs):
     for sign in signs:
         number = number * base + sign
     return number
+
+
+def led_by(book, sign):
+    """Tell the book of 3 * n + sign by evenness, by that of n."""
+    return (3 * book + sign) // 2
+
+
+def heads_of(book):
+    """Tell for the two signs on which a book's numbers end by threes the book of what stands ahead of the sign."""
+    # Twice the book, or one more, is three times the book ahead and the sign.
+    return {twice % 3: twice // 3 for twice in (2 * book, 2 * book + 1)}
 
 
 def sum_at(rows, place):

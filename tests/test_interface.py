@@ -30,6 +30,8 @@ FUNCTIONS = {
         "parts": "one other", "unlike": "one other below", "pairs_met": "one other", "pair_first": "one other pair",
         "pair_nth": "one other pair place", "pair_count": "one other pair below",
     },
+    "renamed": {"renamed": "one other", "shows_renamed": "one other paper"},
+    "beside": {"beside": "one other lift", "raised": "house places"},
     "wishes": {
         "can_be": "homes", "fewest": "homes", "of_menu": "homes menu * prices=None", "turned_into": "house homes",
     },
@@ -40,6 +42,11 @@ FUNCTIONS = {
         "even_book": "number", "halves": "book", "from_halves": "signs", "even_first": "book",
         "even_nth": "book place", "even_count": "book below", "even_behind": "book number",
         "even_ahead": "book number", "even_place": "number", "even_reach": "below", "even_lacks": "book",
+    },
+    "steps": {
+        "steps_many": "number book", "step_least": "number book", "step_greatest": "number book",
+        "is_step": "number book step", "even_paper": "number", "shows_even": "number paper",
+        "led_on": "number book step signs",
     },
     "long": {
         "is_taken": "prime number", "long_step": "prime number", "is_long_step": "prime number step",
@@ -62,6 +69,7 @@ CLASSES = {
         "__init__": "self words", "word": "self index", "index_of": "self number", "led": "self house",
         "book_of": "self house number", "__len__": "self",
     },
+    ("desk", "Desk"): {"__init__": "self", "say": "self row"},
     ("town", "Town"): {
         "__init__": "self", "turn": "self moment bar", "drop": "self moment", "entries": "self * upto=None",
         "bars": "self * upto=None", "house": "self * upto=None", "moves": "self number * since=None upto=None",
