@@ -8,19 +8,34 @@ ANYTHINGS = [
 ]
 
 
-def books_one_by_one(bars, below):
-    """Tell the books of the numbers below a bound, a list, by [12] alone."""
+def one_by_one(below, barred):
+    """Tell the books of the numbers below a bound, each in the first that doesn't bar it, by [1] alone."""
     shelves = []
     books = []
     for number in range(below):
         book = 0
-        while book < len(shelves) and any(number ^ other in bars for other in shelves[book]):
+        while book < len(shelves) and barred(shelves[book], number):
             book += 1
         if book == len(shelves):
-            shelves.append([])
-        shelves[book].append(number)
+            shelves.append(set())
+        shelves[book].add(number)
         books.append(book)
     return books
+
+
+def books_one_by_one(bars, below):
+    """Tell the books of the numbers below a bound, a list, by [12] alone."""
+    return one_by_one(below, lambda shelf, number: any(number ^ other in bars for other in shelf))
+
+
+def evenly_barred(shelf, number):
+    """Tell whether two numbers of a shelf and a number are evenly spaced."""
+    return any(number - d in shelf and number - 2 * d in shelf for d in range(1, number // 2 + 1))
+
+
+def even_one_by_one(below):
+    """Tell the books of the numbers below a bound by evenness, by [27]'s first sentence alone."""
+    return one_by_one(below, evenly_barred)
 
 
 def all_sets(numbers):

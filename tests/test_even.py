@@ -1,32 +1,13 @@
 import random
 import unittest
 
-from helper import ANYTHINGS, far_numbers, refused, same
+from helper import ANYTHINGS, even_one_by_one, evenly_barred, far_numbers, refused, same
 
 from firstbooks.errors import BadSigns
 from firstbooks.even import (
     even_ahead, even_behind, even_book, even_count, even_first, even_lacks, even_nth, even_place, even_reach,
     from_halves, halves,
 )
-
-
-def even_one_by_one(below):
-    """Tell the books of the numbers below a bound by evenness, by [27]'s first sentence alone."""
-    shelves = []
-    books = []
-    for number in range(below):
-        book = 0
-        while book < len(shelves) and barred(shelves[book], number):
-            book += 1
-        if book == len(shelves):
-            shelves.append(set())
-        shelves[book].add(number)
-        books.append(book)
-    return books
-
-
-def barred(shelf, number):
-    return any(number - d in shelf and number - 2 * d in shelf for d in range(1, number // 2 + 1))
 
 
 BELOW = 3 ** 6 + 50
@@ -57,7 +38,7 @@ class TestEvenBook(unittest.TestCase):
         # A number is in no lesser book, for a step bars it from each.
         for number in range(400):
             for book in range(BOOKS[number]):
-                self.assertTrue(barred(set(numbers_of(book)), number))
+                self.assertTrue(evenly_barred(set(numbers_of(book)), number))
 
 
 class TestHalves(unittest.TestCase):

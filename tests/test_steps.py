@@ -3,7 +3,7 @@ import random
 import sys
 import unittest
 
-from helper import ANYTHINGS, far_numbers, otherwise, refused, same
+from helper import ANYTHINGS, even_one_by_one, far_numbers, otherwise, refused, same
 
 from firstbooks.errors import BadSigns, NoStep, TooMany
 from firstbooks.even import even_book, even_first, even_nth
@@ -12,24 +12,8 @@ from firstbooks.steps import (
 )
 
 
-def books_by_evenness(below):
-    """Tell the books of the numbers below a bound, by [27]'s first sentence alone."""
-    shelves, books = [], []
-    for number in range(below):
-        book = 0
-        while book < len(shelves) and any(
-            number - d in shelves[book] and number - 2 * d in shelves[book] for d in range(1, number // 2 + 1)
-        ):
-            book += 1
-        if book == len(shelves):
-            shelves.append(set())
-        shelves[book].add(number)
-        books.append(book)
-    return books
-
-
 BELOW = 320
-BOOKS = books_by_evenness(BELOW)
+BOOKS = even_one_by_one(BELOW)
 MOST = max(BOOKS)
 
 
