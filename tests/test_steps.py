@@ -1,4 +1,3 @@
-import functools
 import random
 import sys
 import unittest
@@ -22,13 +21,20 @@ def steps_of(number, book):
     return [d for d in range(1, number // 2 + 1) if BOOKS[number - d] == BOOKS[number - 2 * d] == book]
 
 
+KNOWN = {}
+
 # A far number is gone through sign by sign, one call in another.
 sys.setrecursionlimit(5000)
 
 
-@functools.lru_cache(None)
-def pairs(one, two, book, beside):
+def pairs(*asked):
     """Tell how many d from 0 on give one - d in a book and two - 2 * d in another, the least and the greatest."""
+    if asked not in KNOWN:
+        KNOWN[asked] = pairs_by_signs(*asked)
+    return KNOWN[asked]
+
+
+def pairs_by_signs(one, two, book, beside):
     if one < 27 or two < 27:
         found = [d for d in range(max(one, two, 0) + 1) if one >= d and two >= 2 * d
                  and even_book(one - d) == book and even_book(two - 2 * d) == beside]
